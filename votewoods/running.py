@@ -1,0 +1,47 @@
+"""Running a forest on an input."""
+
+from votewoods.errors import InvalidInput
+from votewoods.forests import BELOW, LEAF, check_forest
+from votewoods.parts import is_given, is_less
+
+
+def votes(forest, given):
+    """Return the votes of the forest for the input."""
+    check_forest(forest)
+    check_given(forest, given)
+    rows = [votes_of(tree, given) for tree in forest[2]]
+    return tuple([sum([row[number] for row in rows]) for number in range(forest[1])])
+
+
+def answer(forest, given):
+    """Return the answer of the forest for the input."""
+    sums = votes(forest, given)
+    # The index is that of the first one of several greatest sums.
+    return sums.index(max(sums))
+
+
+def gap(forest, given):
+    """Return by how much the greatest sum is greater than the next one."""
+    sums = sorted(votes(forest, given), reverse=True)
+    return sums[0] - sums[1]
+
+
+def check_given(forest, given):
+    """Raise InvalidInput if the value is not an input for the forest's kinds."""
+    if not is_given(given, forest[0]):
+        raise InvalidInput("this is not an input for the forest's kinds")
+
+
+def votes_of(tree, given):
+    """Return the votes of the leaf to which the input comes."""
+    while tree[0] != LEAF:
+        tree = tree[3] if goes_first(tree, given) else tree[4]
+    return tree[1]
+
+
+def goes_first(tree, given):
+    """Return whether the input goes to the first tree of a test."""
+    word, part, bound = tree[:3]
+    if word == BELOW:
+        return is_less(given[part], bound)
+    return given[part] in bound
