@@ -62,19 +62,19 @@ def wrong_values():
     return values
 
 
-def random_votes(rng, answers):
-    return tuple(rng.randint(-9, 9) for _ in range(answers))
+def random_votes(rng, answers, largest=9):
+    return tuple(rng.randint(-largest, largest) for _ in range(answers))
 
 
-def random_tree(rng, kinds, answers, leaves):
+def random_tree(rng, kinds, answers, leaves, places=None, largest=9):
     if leaves == 1:
-        return ("leaf", random_votes(rng, answers))
+        return ("leaf", random_votes(rng, answers, largest))
     on_first = rng.randint(1, leaves - 1)
-    first = random_tree(rng, kinds, answers, on_first)
-    second = random_tree(rng, kinds, answers, leaves - on_first)
+    first = random_tree(rng, kinds, answers, on_first, places, largest)
+    second = random_tree(rng, kinds, answers, leaves - on_first, places, largest)
     part = rng.randrange(len(kinds))
     if kinds[part] == "0":
-        return ("below", part, rng.choice(PLACES), first, second)
+        return ("below", part, rng.choice(places or PLACES), first, second)
     marks = rng.sample(kinds[part], rng.randint(1, len(kinds[part])))
     return ("among", part, "".join(sorted(marks)), first, second)
 
@@ -97,8 +97,34 @@ def random_forests(many):
     return forests
 
 
+def small_forests(many):
+    """Forests with few places and small votes, so that they often tell the same, the same ones each time."""
+    rng = random.Random(7)
+    forests = []
+    for _ in range(many):
+        kinds = tuple(rng.choice(["0", "0", "ab", "bdf", "wxyz"]) for _ in range(rng.randint(1, 3)))
+        answers = rng.randint(2, 3)
+        trees = [random_tree(rng, kinds, answers, rng.randint(1, 4), FEW_PLACES, 2) for _ in range(rng.randint(1, 3))]
+        forests.append((kinds, answers, tuple(trees)))
+    return forests
+
+
+def greatest_forest(bottom):
+    """A forest of three parts of numbers with 28 places, each of them needed for the votes."""
+    rng = random.Random(bottom)
+    trees = []
+    for at in range(4):
+        tree = ("leaf", random_votes(rng, 3))
+        for number in range(7 * at + 6, 7 * at - 1, -1):
+            top = (number // 3 * 2 - 9) * bottom + bottom - 1
+            tree = below(number % 3, (top, bottom), ("leaf", random_votes(rng, 3)), tree)
+        trees.append(tree)
+    return (("0", "0", "0"), 3, tuple(trees))
+
+
 def lowest_terms(top, bottom):
     return all(top % by or bottom % by for by in range(2, bottom + 1))
 
 
 PLACES = [(top, bottom) for bottom in range(1, 5) for top in range(-99, 100) if lowest_terms(top, bottom)]
+FEW_PLACES = [(-1, 1), (0, 1), (1, 3), (1, 2), (5, 4), (2, 1)]

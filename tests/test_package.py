@@ -16,6 +16,19 @@ INTERFACE = {
     "forests": {"is_forest": ["value"], "count_leaves": ["forest"]},
     "texts": {"format_forest": ["forest"], "parse_forest": ["text"]},
     "running": {"votes": ["forest", "given"], "answer": ["forest", "given"], "gap": ["forest", "given"]},
+    "forms": {
+        "votes_form": ["forest"], "answers_form": ["forest"],
+        "same_votes": ["forest", "other"], "same_answers": ["forest", "other"],
+        "parting_votes": ["forest", "other"], "parting_answers": ["forest", "other"],
+    },
+    "single": {
+        "fewest_leaves": ["forest"], "least_depth": ["forest"], "small_tree": ["forest"], "flat_tree": ["forest"],
+    },
+    "pruning": {
+        "unreached": ["forest"], "idle_trees": ["forest"],
+        "matters": ["forest", "part"], "parts_that_matter": ["forest"],
+    },
+    "nearness": {"nearest": ["forest", "given", "free"]},
 }
 
 BUILTINS = """len range enumerate zip min max sum abs sorted reversed int str bool list tuple dict set isinstance ord

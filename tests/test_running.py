@@ -2,8 +2,8 @@
 
 import copy
 import unittest
-from fractions import Fraction
 
+from plain import plain_votes
 from samples import F, chain, one_tree, random_forests, wrong_values
 from votewoods.errors import InvalidForest, InvalidInput
 from votewoods.running import answer, gap, votes
@@ -21,17 +21,6 @@ def given_for(kinds, at):
         given.append(values[at % len(values)] if kind == "0" else kind[at % len(kind)])
         at = at // 2 + 3
     return tuple(given)
-
-
-def plain_votes(forest, given):
-    """The votes by Python's own fractions, and by another way through the trees."""
-    def follow(tree):
-        if tree[0] == "leaf":
-            return tree[1]
-        if tree[0] == "below":
-            return follow(tree[3 if Fraction(*given[tree[1]]) < Fraction(*tree[2]) else 4])
-        return follow(tree[3 if tree[2].count(given[tree[1]]) else 4])
-    return tuple(map(sum, zip(*map(follow, forest[2]))))
 
 
 class Examples(unittest.TestCase):

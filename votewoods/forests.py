@@ -1,7 +1,7 @@
 """Forests: what is one, and how many leaves it has."""
 
-from votewoods.errors import InvalidForest
-from votewoods.parts import NUMBERS, is_fraction, is_kinds, is_marks, is_whole
+from votewoods.errors import InvalidForest, InvalidPart, NoFit
+from votewoods.parts import NUMBERS, is_fraction, is_kinds, is_marks, is_part, is_whole
 
 LEAF = "leaf"
 BELOW = "below"
@@ -9,6 +9,8 @@ AMONG = "among"
 LARGEST_VOTE = 9
 LARGEST_PLACE_TOP = 99
 LARGEST_PLACE_BOTTOM = 4
+# The bottoms of all places, 1 to 4, divide this number.
+COMMON_BOTTOM = 12
 FEWEST_ANSWERS = 2
 MOST_ANSWERS = 3
 MOST_TREES = 4
@@ -42,6 +44,20 @@ def check_forest(forest):
         raise InvalidForest("this is not a forest")
 
 
+def check_pair(forest, other):
+    """Raise InvalidForest or NoFit if these are not two forests with like kinds and answers."""
+    check_forest(forest)
+    check_forest(other)
+    if forest[:2] != other[:2]:
+        raise NoFit("the forests have unlike kinds or unlike numbers of answers")
+
+
+def check_part(forest, part):
+    """Raise InvalidPart if the value is not the number of a part of the forest's inputs."""
+    if not is_part(part, forest[0]):
+        raise InvalidPart("this is not the number of a part")
+
+
 def is_tree(value, kinds, answers):
     """Return whether the value is a tree for these kinds and this number of answers."""
     return is_branch(value, kinds, answers, MOST_TESTS) and leaves_of(value) <= MOST_LEAVES
@@ -64,7 +80,7 @@ def is_branch(value, kinds, answers, tests_left):
 
 def is_test(word, part, bound, kinds):
     """Return whether these are the word, the part, and the place or the marks, of a test."""
-    if not is_whole(part) or not 0 <= part < len(kinds):
+    if not is_part(part, kinds):
         return False
     if kinds[part] == NUMBERS:
         return word == BELOW and is_fraction(bound, LARGEST_PLACE_TOP, LARGEST_PLACE_BOTTOM)

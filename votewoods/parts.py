@@ -25,6 +25,17 @@ def is_fraction(value, top, bottom):
     return gcd(value[0], value[1]) == 1
 
 
+def lowest_terms(top, bottom):
+    """Return the fraction with this top and this bottom, which is greater than 0."""
+    by = gcd(top, bottom)
+    return (top // by, bottom // by)
+
+
+def times(fraction, scale):
+    """Return the fraction times the scale, which its bottom divides."""
+    return fraction[0] * (scale // fraction[1])
+
+
 def is_less(fraction, other):
     """Return whether the first fraction is less than the other one."""
     return fraction[0] * other[1] < other[0] * fraction[1]
@@ -51,6 +62,11 @@ def is_kinds(value):
     if not isinstance(value, tuple) or not 1 <= len(value) <= MOST_PARTS:
         return False
     return all([is_kind(kind) for kind in value])
+
+
+def is_part(value, kinds):
+    """Return whether the value is the number of a part."""
+    return is_whole(value) and 0 <= value < len(kinds)
 
 
 def is_marks(value, kind):

@@ -9,15 +9,14 @@ def votes(forest, given):
     """Return the votes of the forest for the input."""
     check_forest(forest)
     check_given(forest, given)
-    rows = [votes_of(tree, given) for tree in forest[2]]
-    return tuple([sum([row[number] for row in rows]) for number in range(forest[1])])
+    return votes_of(forest, given)
 
 
 def answer(forest, given):
     """Return the answer of the forest for the input."""
-    sums = votes(forest, given)
-    # The index is that of the first one of several greatest sums.
-    return sums.index(max(sums))
+    check_forest(forest)
+    check_given(forest, given)
+    return answer_of(forest, given)
 
 
 def gap(forest, given):
@@ -32,7 +31,20 @@ def check_given(forest, given):
         raise InvalidInput("this is not an input for the forest's kinds")
 
 
-def votes_of(tree, given):
+def votes_of(forest, given):
+    """Return the votes, where the forest and the input have been checked."""
+    rows = [leaf_votes(tree, given) for tree in forest[2]]
+    return tuple([sum([row[number] for row in rows]) for number in range(forest[1])])
+
+
+def answer_of(forest, given):
+    """Return the answer, where the forest and the input have been checked."""
+    sums = votes_of(forest, given)
+    # The index is that of the first one of several greatest sums.
+    return sums.index(max(sums))
+
+
+def leaf_votes(tree, given):
     """Return the votes of the leaf to which the input comes."""
     while tree[0] != LEAF:
         tree = tree[3] if goes_first(tree, given) else tree[4]
