@@ -8,28 +8,11 @@ import pathlib
 import unittest
 
 import votewoods
+from interface import DESK, INTERFACE
+from votewoods.desks import Desk
 
 FOLDER = pathlib.Path(votewoods.__file__).parent
 FILES = sorted(FOLDER.glob("*.py"))
-
-INTERFACE = {
-    "forests": {"is_forest": ["value"], "count_leaves": ["forest"]},
-    "texts": {"format_forest": ["forest"], "parse_forest": ["text"]},
-    "running": {"votes": ["forest", "given"], "answer": ["forest", "given"], "gap": ["forest", "given"]},
-    "forms": {
-        "votes_form": ["forest"], "answers_form": ["forest"],
-        "same_votes": ["forest", "other"], "same_answers": ["forest", "other"],
-        "parting_votes": ["forest", "other"], "parting_answers": ["forest", "other"],
-    },
-    "single": {
-        "fewest_leaves": ["forest"], "least_depth": ["forest"], "small_tree": ["forest"], "flat_tree": ["forest"],
-    },
-    "pruning": {
-        "unreached": ["forest"], "idle_trees": ["forest"],
-        "matters": ["forest", "part"], "parts_that_matter": ["forest"],
-    },
-    "nearness": {"nearest": ["forest", "given", "free"]},
-}
 
 BUILTINS = """len range enumerate zip min max sum abs sorted reversed int str bool list tuple dict set isinstance ord
     repr any all divmod ValueError KeyError IndexError""".split()
@@ -41,6 +24,15 @@ METHODS = """append clear copy count endswith extend find get index insert isaln
 LIBRARY = {"math": ["gcd", "lcm", "isqrt"], "itertools": ["product", "combinations", "permutations"]}
 NO_NAMES = ["register", "mro", "elements", "open", "input", "law", "version_info", "with_traceback", "add_note"]
 NO_NODES = (ast.AsyncFunctionDef, ast.Await, ast.Global, ast.Div)
+
+
+SPECIAL = ["__init__", "__eq__", "__len__"]
+
+
+def assigned(tree):
+    """The names of the attributes that the methods assign."""
+    return [node.attr for node in ast.walk(tree)
+            if isinstance(node, ast.Attribute) and not isinstance(node.ctx, ast.Load)]
 
 
 def trees():
@@ -69,6 +61,17 @@ class Interface(unittest.TestCase):
             for function in functions:
                 for parameter in inspect.signature(getattr(module, function)).parameters.values():
                     self.assertIn(parameter.kind, positional)
+                    self.assertIs(parameter.default, inspect.Parameter.empty)
+
+    def test_methods_are_defined_in_the_class_itself(self):
+        self.assertEqual(Desk.__module__, "votewoods.desks")
+        for name, parameters in DESK.items():
+            with self.subTest(method=name):
+                found = vars(Desk)[name]
+                self.assertTrue(inspect.isfunction(found))
+                self.assertEqual(list(inspect.signature(found).parameters), parameters)
+                for parameter in inspect.signature(found).parameters.values():
+                    self.assertIs(parameter.kind, inspect.Parameter.POSITIONAL_OR_KEYWORD)
                     self.assertIs(parameter.default, inspect.Parameter.empty)
 
 
@@ -144,7 +147,24 @@ class Language(unittest.TestCase):
                 read = [node.id for node in ast.walk(tree) if isinstance(node, ast.Name)]
                 self.assertEqual([name for name in read if name in OTHER_BUILTINS and name not in CONSTANTS], [])
 
+    def test_classes(self):
+        for path, tree in trees():
+            for node in ast.walk(tree):
+                if isinstance(node, ast.ClassDef):
+                    with self.subTest(path=path.name, name=node.name):
+                        methods = [one for one in node.body if isinstance(one, ast.FunctionDef)]
+                        self.assertEqual(node.body[1:], methods)
+                        self.assertEqual(node.decorator_list + node.keywords, [])
+                        names = [one.name for one in methods]
+                        self.assertEqual(len(names), len(set(names)))
+                        marked = [name for name in names if name.startswith("__")]
+                        self.assertEqual([name for name in marked if name not in SPECIAL], [])
+                        self.assertEqual([name for name in assigned(node) if name in names + METHODS], [])
+
     def test_statements_values_and_methods(self):
+        own = [one.name for _, tree in trees() for node in ast.walk(tree) if isinstance(node, ast.ClassDef)
+               for one in node.body if isinstance(one, ast.FunctionDef) and one.name not in SPECIAL]
+        own += [name for _, tree in trees() for name in assigned(tree)]
         for path, tree in trees():
             for node in ast.walk(tree):
                 with self.subTest(path=path.name, line=getattr(node, "lineno", 0)):
@@ -153,7 +173,7 @@ class Language(unittest.TestCase):
                         self.assertNotIsInstance(node.value, (float, complex))
                         self.assertNotIn("%", str(node.value))
                     if isinstance(node, ast.Attribute):
-                        self.assertIn(node.attr, METHODS)
+                        self.assertIn(node.attr, METHODS + own)
 
     def test_module_level(self):
         for path, tree in trees():

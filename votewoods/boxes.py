@@ -37,7 +37,12 @@ def sizes_of(kinds, axes):
 
 def told_inputs(kinds, axes):
     """Return the told inputs of all boxes of the axes, in the boxes' sequence."""
-    return rows_of([told_values(kind, axis) for kind, axis in zip(kinds, axes)])
+    return rows_of(told_columns(kinds, axes))
+
+
+def told_columns(kinds, axes):
+    """Return, for each part, the values that the told inputs have in it."""
+    return [told_values(kind, axis) for kind, axis in zip(kinds, axes)]
 
 
 def told_values(kind, axis):

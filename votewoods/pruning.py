@@ -3,7 +3,7 @@
 from votewoods.boxes import asked_axes, sizes_of, told_inputs
 from votewoods.forests import LEAF, check_forest, check_part
 from votewoods.forms import answers_form
-from votewoods.running import goes_first
+from votewoods.running import parted
 
 
 def unreached(forest):
@@ -22,8 +22,7 @@ def unreached_ways(tree, way, givens):
     """Return the ways to the leaves to which none of the inputs comes, all of which come to this tree."""
     if tree[0] == LEAF:
         return [way] if len(givens) == 0 else []
-    first = [given for given in givens if goes_first(tree, given)]
-    second = [given for given in givens if not goes_first(tree, given)]
+    first, second = parted(tree, givens)
     return unreached_ways(tree[3], way + "0", first) + unreached_ways(tree[4], way + "1", second)
 
 

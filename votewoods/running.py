@@ -21,8 +21,7 @@ def answer(forest, given):
 
 def gap(forest, given):
     """Return by how much the greatest sum is greater than the next one."""
-    sums = sorted(votes(forest, given), reverse=True)
-    return sums[0] - sums[1]
+    return gap_of(votes(forest, given))
 
 
 def check_given(forest, given):
@@ -33,8 +32,18 @@ def check_given(forest, given):
 
 def votes_of(forest, given):
     """Return the votes, where the forest and the input have been checked."""
-    rows = [leaf_votes(tree, given) for tree in forest[2]]
-    return tuple([sum([row[number] for row in rows]) for number in range(forest[1])])
+    return added([leaf_votes(tree, given) for tree in forest[2]])
+
+
+def added(rows):
+    """Return the sums of these votes."""
+    return tuple([sum(column) for column in zip(*rows)])
+
+
+def gap_of(sums):
+    """Return by how much the greatest sum is greater than the next one."""
+    ordered = sorted(sums, reverse=True)
+    return ordered[0] - ordered[1]
 
 
 def answer_of(forest, given):
@@ -49,6 +58,13 @@ def leaf_votes(tree, given):
     while tree[0] != LEAF:
         tree = tree[3] if goes_first(tree, given) else tree[4]
     return tree[1]
+
+
+def parted(test, givens):
+    """Return those inputs that go to the first tree of the test, and those that go to the second one."""
+    first = [given for given in givens if goes_first(test, given)]
+    second = [given for given in givens if not goes_first(test, given)]
+    return (first, second)
 
 
 def goes_first(tree, given):
